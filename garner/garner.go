@@ -9,9 +9,6 @@ import (
 	"garner/sample"
 )
 
-// Store keeps samples.
-type Store struct{}
-
 // Right tells whether a configuration is right (P3).
 func Right(c api.Config) api.Errno {
 	if !config.Right(c) {
@@ -38,24 +35,3 @@ func Record(batch []api.Sample) (string, api.Errno) {
 func Unrecord(s string) ([]api.Sample, int, api.Errno) {
 	return record.ReadBatch(s)
 }
-
-// Open makes a store out of a log (P6).
-func Open(c api.Config, log string) (*Store, int, api.Errno) { return nil, 0, api.OK }
-
-// Tick lets the time go on (P7).
-func (x *Store) Tick(n int) api.Errno { return api.OK }
-
-// Now tells the time (P7).
-func (x *Store) Now() int { return 0 }
-
-// Write takes a batch of samples (P8).
-func (x *Store) Write(batch []api.Sample) api.Errno { return api.OK }
-
-// Query adds up what is kept (P9).
-func (x *Store) Query(q api.Query) ([]api.Row, api.Errno) { return nil, api.OK }
-
-// Cells tells how many cells there are (P10).
-func (x *Store) Cells() int { return 0 }
-
-// Log tells the records of all that was accepted (P11).
-func (x *Store) Log() string { return "" }

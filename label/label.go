@@ -3,8 +3,8 @@ package label
 
 import "garner/api"
 
-// keys is how many keys labels and rules have.
-const keys = 3
+// Keys is how many keys labels and rules have.
+const Keys = 3
 
 // none is the byte of a key that has no label.
 const none = '-'
@@ -14,11 +14,15 @@ func isLetter(b byte) bool {
 	return b >= 'a' && b <= 'z'
 }
 
+// RightByte tells whether a byte may stand at a key of labels.
+func RightByte(b byte) bool {
+	return b == none || isLetter(b)
+}
+
 // Right tells whether three bytes are labels.
 func Right(labels api.Labels) bool {
-	for i := 0; i < keys; i++ {
-		b := labels[i]
-		if b != none && !isLetter(b) {
+	for i := 0; i < Keys; i++ {
+		if !RightByte(labels[i]) {
 			return false
 		}
 	}
@@ -27,10 +31,10 @@ func Right(labels api.Labels) bool {
 
 // RightRule tells whether a string is a rule.
 func RightRule(rule string) bool {
-	if len(rule) != keys {
+	if len(rule) != Keys {
 		return false
 	}
-	for i := 0; i < keys; i++ {
+	for i := 0; i < Keys; i++ {
 		b := rule[i]
 		if b != 'k' && b != 'g' && b != 'd' {
 			return false
@@ -70,7 +74,7 @@ func Project(rule string, labels api.Labels) (api.Labels, api.Errno) {
 		return api.Labels{}, api.ErrLabels
 	}
 	made := api.Labels{}
-	for i := 0; i < keys; i++ {
+	for i := 0; i < Keys; i++ {
 		made[i] = projectByte(rule[i], labels[i])
 	}
 	return made, api.OK
