@@ -266,6 +266,14 @@ func wantLikeModel(t *testing.T, r *rand.Rand, x *garner.Store, m *model, count 
 		t.Errorf("P7: Now() = %d, want %d", x.Now(), m.now)
 		return false
 	}
+	if n, want := x.Cells(), len(m.cells()); n != want {
+		t.Errorf("P10: %+v at %d: Cells() = %d, want %d", m.c, m.now, n, want)
+		return false
+	}
+	if x.Log() != m.log {
+		t.Errorf("P11: %+v at %d: Log() = %x, want %x", m.c, m.now, x.Log(), m.log)
+		return false
+	}
 	for range count {
 		q := anyQuery(r, m.c, m.now)
 		got, e := x.Query(q)
@@ -303,7 +311,7 @@ func TestStoreLikeModel(t *testing.T) {
 				return
 			}
 		}
-		y := wantOpen(t, m.c, m.log+"T", len(m.log), m.now)
+		y := wantOpen(t, m.c, x.Log()+"T", len(m.log), m.now)
 		if !wantLikeModel(t, r, y, m, 10) {
 			return
 		}

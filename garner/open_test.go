@@ -23,7 +23,7 @@ func writeRecord(t *testing.T, batch ...api.Sample) string {
 	return s
 }
 
-// wantOpen looks how many bytes of a log are done, and to which time they lead.
+// wantOpen looks how many bytes of a log are done, and to which time they lead; these bytes are the store's log.
 func wantOpen(t *testing.T, c api.Config, log string, done, now int) *garner.Store {
 	t.Helper()
 	x, n, e := garner.Open(c, log)
@@ -33,6 +33,7 @@ func wantOpen(t *testing.T, c api.Config, log string, done, now int) *garner.Sto
 	if n != done || x.Now() != now {
 		t.Errorf("P6: Open of %.99q did %d bytes, Now() = %d, want %d, %d", log, n, x.Now(), done, now)
 	}
+	wantLog(t, x, log[:done])
 	return x
 }
 

@@ -3,6 +3,7 @@ package garner
 import (
 	"garner/api"
 	"garner/block"
+	"garner/cell"
 	"garner/config"
 	"garner/query"
 	"garner/record"
@@ -18,6 +19,8 @@ type Store struct {
 	taken  int
 	points []series.Point
 	book   series.Book
+	// log is bytes, not a string, so that a record is put behind it without a copy of all of it.
+	log []byte
 }
 
 // Open makes a store out of a log (P6).
@@ -87,6 +90,8 @@ func (x *Store) Tick(n int) api.Errno {
 	}
 	x.now += n
 	x.forget()
+	s := record.OfTick(n)
+	x.log = append(x.log, s...)
 	return api.OK
 }
 
@@ -119,6 +124,8 @@ func (x *Store) Write(batch []api.Sample) api.Errno {
 		x.points = append(x.points, p)
 	}
 	x.taken += len(batch)
+	s := record.OfBatch(batch)
+	x.log = append(x.log, s...)
 	return api.OK
 }
 
@@ -150,7 +157,11 @@ func (x *Store) Query(q api.Query) ([]api.Row, api.Errno) {
 }
 
 // Cells tells how many cells there are (P10).
-func (x *Store) Cells() int { return 0 }
+func (x *Store) Cells() int {
+	return cell.Count(x.config, x.now, x.points)
+}
 
 // Log tells the records of all that was accepted (P11).
-func (x *Store) Log() string { return "" }
+func (x *Store) Log() string {
+	return string(x.log)
+}

@@ -106,19 +106,38 @@ func wantNoRows(t *testing.T, x *garner.Store, q api.Query, want api.Errno) {
 	}
 }
 
+func wantCells(t *testing.T, x *garner.Store, want int) {
+	t.Helper()
+	if n := x.Cells(); n != want {
+		t.Errorf("P10: at %d Cells() = %d, want %d", x.Now(), n, want)
+	}
+}
+
+func wantLog(t *testing.T, x *garner.Store, want string) {
+	t.Helper()
+	if s := x.Log(); s != want {
+		t.Errorf("P11: at %d Log() = %.99x (%d bytes), want %.99x (%d bytes)", x.Now(), s, len(s), want, len(want))
+	}
+}
+
 // The document's example, up to the block's end.
 func TestStoreExample(t *testing.T) {
 	x := beginAt(t, example2(), 9)
 	wantWrite(t, x, api.OK, at(1, "ab-", 5), at(2, "ac-", 7), at(2, "ad-", 1))
 	wantRows(t, x, ask(0, 10, 5, "...", "000"), row(0, "***", 1, 1, 1, 1), row(0, "...", 2, 12, 5, 7))
 	wantRows(t, x, ask(0, 10, 5, "...", "010"), row(0, "***", 1, 1, 1, 1), row(0, ".b.", 1, 5, 5, 5), row(0, ".c.", 1, 7, 7, 7))
+	wantCells(t, x, 3)
 	wantTick(t, x, 1, api.OK)
 	wantNoRows(t, x, ask(0, 10, 5, "...", "010"), api.ErrLost)
 	wantNoRows(t, x, ask(0, 10, 2, "...", "000"), api.ErrWindow)
 	wantRows(t, x, ask(0, 10, 5, "a..", "101"), row(0, "***", 1, 1, 1, 1), row(0, "a.-", 2, 12, 5, 7))
+	wantCells(t, x, 2)
 	wantWrite(t, x, api.OK, at(3, "ae-", 4))
 	wantRows(t, x, ask(0, 10, 5, "a..", "101"), row(0, "***", 2, 5, 1, 4), row(0, "a.-", 2, 12, 5, 7))
 	wantTick(t, x, 30, api.OK)
 	wantNoRows(t, x, ask(0, 10, 5, "...", "000"), api.ErrExpired)
 	wantWrite(t, x, api.ErrTime, at(3, "ab-", 1))
+	wantCells(t, x, 0)
+	first := writeRecord(t, at(1, "ab-", 5), at(2, "ac-", 7), at(2, "ad-", 1))
+	wantLog(t, x, tickRecord(9)+first+tickRecord(1)+writeRecord(t, at(3, "ae-", 4))+tickRecord(30))
 }

@@ -169,6 +169,33 @@ func TestWriteLimits(t *testing.T) {
 	}
 }
 
+// As long as no more than Limit different labels come to each level, there is no group *** (P12).
+func TestWriteWithinLimits(t *testing.T) {
+	for limit := 1; limit <= 20; limit++ {
+		c := example2()
+		c.Levels[0].Limit = limit
+		c.Levels[1].Limit = (limit + 1) / 2
+		x := begin(t, c)
+		var fine, coarse []api.Row
+		for i := range limit {
+			name := string([]byte{byte('a' + i/2), "bc"[i%2], '-'})
+			wantWrite(t, x, api.OK, at(0, name, 1))
+			wantWrite(t, x, api.OK, at(0, name, 1))
+			fine = append(fine, row(0, name[:2]+".", 2, 2, 1, 1))
+			if i%2 == 0 {
+				coarse = append(coarse, row(0, name[:1]+"..", 0, 0, 1, 1))
+			}
+			coarse[i/2].Count += 2
+			coarse[i/2].Sum += 2
+		}
+		wantRows(t, x, ask(0, 10, 10, "...", "110"), fine...)
+		wantCells(t, x, limit)
+		tickTo(t, x, 10)
+		wantRows(t, x, ask(0, 10, 10, "...", "100"), coarse...)
+		wantCells(t, x, (limit+1)/2)
+	}
+}
+
 // What a rule makes of labels is what takes room, at level 0 too.
 func TestWriteAsksForProjected(t *testing.T) {
 	c := api.Config{Span: 10, Keep: 3, Levels: []api.Level{{Age: 0, Window: 1, Rule: "gkd", Limit: 2}}}

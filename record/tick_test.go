@@ -50,3 +50,18 @@ func TestReadTick(t *testing.T) {
 		}
 	}
 }
+
+// What OfTick writes is what ReadTick reads, at every n that a Tick may have.
+func TestOfTick(t *testing.T) {
+	if s := OfTick(300); s != example {
+		t.Errorf("OfTick(300) = %x, want %x", s, example)
+	}
+	for n := 1; n <= api.MaxTick; n++ {
+		s := OfTick(n)
+		body := string([]byte{'T', byte(n % 256), byte(n / 256)})
+		if s != body+number(check(body)) {
+			t.Errorf("OfTick(%d) = %x", n, s)
+		}
+		wantTick(t, s, n)
+	}
+}
